@@ -90,5 +90,8 @@ func (f Frame) tag() string {
 // Bytes puts a frame together.
 func (f Frame) Bytes() string { return f.To + f.From + f.tag() + f.Type + f.Rest }
 
+// IsStation tells whether a text is a MAC, and no group's.
+func IsStation(text string) bool { return len(text) == toEnd && !IsGroup(text) }
+
 // IsGroup tells whether a MAC is a group's.
 func IsGroup(mac string) bool { return mac != "" && mac[0]&1 == 1 }

@@ -119,3 +119,20 @@ func TestIsGroup(t *testing.T) {
 		}
 	}
 }
+
+func TestIsStation(t *testing.T) {
+	for text, want := range map[string]bool{
+		"\x02aaaaa":                true,
+		"\x00\x00\x00\x00\x00\x00": true,
+		"\xfe\xff\xff\xff\xff\xff": true,
+		"\xff\xff\xff\xff\xff\xff": false,
+		"\x01\x00\x00\x00\x00\x00": false,
+		"\x02aaaa":                 false,
+		"\x02aaaaaa":               false,
+		"":                         false,
+	} {
+		if got := frame.IsStation(text); got != want {
+			t.Errorf("IsStation(%q) = %t, want %t", text, got, want)
+		}
+	}
+}

@@ -39,15 +39,9 @@ func noPlaces() *ordered.Map[place, seen] { return ordered.New[place, seen](plac
 
 // Learn lets a MAC stand behind a port of a VLAN, if it is known or there is room for one more.
 func (k *Known) Learn(vlan int, mac string, port int) {
-	at := place{vlan: vlan, mac: mac}
-	if _, there := k.places.Get(at); !there {
-		if k.places.Len() >= api.MaxMacs {
-			return
-		}
-		// A piece of a frame would keep all of it in memory.
-		at.mac = strings.Clone(mac)
-	}
-	k.places.Put(at, seen{port: port})
+	// A piece of a frame would keep all of it in memory.
+	at := place{vlan: vlan, mac: strings.Clone(mac)}
+	k.places.PutWithin(api.MaxMacs, at, seen{port: port})
 }
 
 // Port tells the port behind which a MAC stands in a VLAN; false, if it is not known.

@@ -46,11 +46,22 @@ func (m *Map[K, V]) Put(key K, value V) {
 	m.entries = slices.Insert(m.entries, at, entry[K, V]{key: key, value: value})
 }
 
-// Delete takes a key away.
-func (m *Map[K, V]) Delete(key K) {
-	if at, there := m.place(key); there {
+// PutWithin is Put, if the map has no more than most entries then; else it tells false, and all is as it was.
+func (m *Map[K, V]) PutWithin(most int, key K, value V) bool {
+	if _, there := m.place(key); !there && m.Len() >= most {
+		return false
+	}
+	m.Put(key, value)
+	return true
+}
+
+// Delete takes a key away; false, if it is not there.
+func (m *Map[K, V]) Delete(key K) bool {
+	at, there := m.place(key)
+	if there {
 		m.entries = slices.Delete(m.entries, at, at+1)
 	}
+	return there
 }
 
 // All goes through the entries in order.

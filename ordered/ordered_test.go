@@ -36,16 +36,39 @@ func TestPutTwiceGetDelete(t *testing.T) {
 	if v, there := m.Get(1); v != "" || there {
 		t.Errorf("Get of an empty map: %q, %t", v, there)
 	}
-	m.Delete(1)
+	if m.Delete(1) {
+		t.Error("Delete(1) of an empty map")
+	}
 	m.Put(1, "a")
 	m.Put(1, "b")
 	if v, there := m.Get(1); v != "b" || !there || m.Len() != 1 {
 		t.Errorf("Get(1) = %q, %t of %d", v, there, m.Len())
 	}
-	m.Delete(2)
-	m.Delete(1)
+	if m.Delete(2) || !m.Delete(1) || m.Delete(1) {
+		t.Error("Delete tells otherwise than what was there")
+	}
 	if v, there := m.Get(1); v != "" || there || m.Len() != 0 {
 		t.Errorf("Get(1) behind Delete = %q, %t of %d", v, there, m.Len())
+	}
+}
+
+func TestPutWithin(t *testing.T) {
+	m := New[falling, string](falling.compare)
+	if m.PutWithin(0, 1, "none") || m.Len() != 0 {
+		t.Error("one within none")
+	}
+	if !m.PutWithin(2, 1, "a") || !m.PutWithin(2, 5, "b") || m.PutWithin(2, 3, "c") {
+		t.Error("there is room for two")
+	}
+	if !m.PutWithin(2, 1, "d") || !m.PutWithin(1, 5, "e") {
+		t.Error("no room for what is there")
+	}
+	if v, _ := m.Get(1); v != "d" || !slices.Equal(keysOf(m), []falling{5, 1}) {
+		t.Errorf("%q under 1, keys %v", v, keysOf(m))
+	}
+	m.Delete(5)
+	if !m.PutWithin(2, 3, "c") || m.PutWithin(2, 5, "b") {
+		t.Error("there is room for one behind Delete")
 	}
 }
 

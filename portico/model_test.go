@@ -2,23 +2,29 @@ package portico_test
 
 import (
 	"cmp"
-	"math/rand"
 	"slices"
-	"testing"
 
 	"portico/api"
-	"portico/portico"
 )
+
+// way is a route's end.
+type way struct {
+	vlan int
+	mac  string
+}
 
 // model is what a switch should be, told as plainly as the document does.
 type model struct {
 	native []int
 	tagged [][]int
 	macs   []api.Mac
+	faces  map[int]string
+	routes map[[2]int]way
+	rules  []api.Rule
 }
 
 func modelOf(ports int) *model {
-	m := &model{native: make([]int, ports), tagged: make([][]int, ports)}
+	m := &model{native: make([]int, ports), tagged: make([][]int, ports), faces: map[int]string{}, routes: map[[2]int]way{}}
 	for i := range m.native {
 		m.native[i] = 1
 	}
@@ -39,6 +45,100 @@ func (m *model) port(port, native int, tagged []int) api.Errno {
 	}
 	m.native[port], m.tagged[port] = native, slices.Clone(tagged)
 	return api.OK
+}
+
+func (m *model) face(vlan int, mac string) api.Errno {
+	_, there := m.faces[vlan]
+	switch {
+	case vlan < 1 || vlan > 4094:
+		return api.ErrVLAN
+	case mac != "" && (len(mac) != 6 || mac[0]%2 == 1):
+		return api.ErrMac
+	case mac == "" && !there:
+		return api.ErrNone
+	case mac != "" && !there && len(m.faces) >= 16:
+		return api.ErrFull
+	}
+	m.faces[vlan] = mac
+	if mac == "" {
+		delete(m.faces, vlan)
+	}
+	return api.OK
+}
+
+func (m *model) route(prefix, length, vlan int, mac string) api.Errno {
+	_, there := m.routes[[2]int{prefix, length}]
+	switch {
+	case length < 0 || length > 32 || prefix < 0 || prefix > 1<<32-1 || prefix%(1<<(32-length)) != 0:
+		return api.ErrRoute
+	case vlan < 1 || vlan > 4094:
+		return api.ErrVLAN
+	case len(mac) != 6 || mac[0]%2 == 1:
+		return api.ErrMac
+	case !there && len(m.routes) >= 100:
+		return api.ErrFull
+	}
+	m.routes[[2]int{prefix, length}] = way{vlan: vlan, mac: mac}
+	return api.OK
+}
+
+func (m *model) unroute(prefix, length int) api.Errno {
+	if _, there := m.routes[[2]int{prefix, length}]; !there {
+		return api.ErrNone
+	}
+	delete(m.routes, [2]int{prefix, length})
+	return api.OK
+}
+
+// insert is asked for rules whose matches are right alone.
+func (m *model) insert(r api.Rule) api.Errno {
+	switch {
+	case r.ID < 0 || r.Priority < 0 || r.Priority > 1000 || r.Action < 0 || r.Action > 2,
+		r.Action == 2 && (r.Port < 0 || r.Port > 7), r.Action != 2 && r.Port != 0:
+		return api.ErrRule
+	case r.Action == 2 && r.Port >= len(m.native):
+		return api.ErrPort
+	case m.rule(r.ID) >= 0:
+		return api.ErrTwice
+	case len(m.rules) >= 200:
+		return api.ErrFull
+	}
+	m.rules = append(m.rules, r)
+	return api.OK
+}
+
+// rule tells where a rule stands in the list, or -1.
+func (m *model) rule(id int) int {
+	return slices.IndexFunc(m.rules, func(r api.Rule) bool { return r.ID == id })
+}
+
+func (m *model) delete(id int) api.Errno {
+	i := m.rule(id)
+	if i < 0 {
+		return api.ErrNone
+	}
+	m.rules = slices.Delete(m.rules, i, i+1)
+	return api.OK
+}
+
+// first tells the first rule that matches a key: a permit, if there is none.
+func (m *model) first(k api.Key) api.Rule {
+	first, found := api.Rule{}, false
+	for _, r := range m.rules {
+		if matches(r, k) && (!found || r.Priority > first.Priority || r.Priority == first.Priority && r.ID < first.ID) {
+			first, found = r, true
+		}
+	}
+	return first
+}
+
+func matches(r api.Rule, k api.Key) bool {
+	for i, m := range r.Match {
+		if m.Kind == api.Mask && k[i]&m.M != m.V || m.Kind == api.Range && (k[i] < m.V || k[i] > m.M) {
+			return false
+		}
+	}
+	return true
 }
 
 func (m *model) tick(seconds int) api.Errno {
@@ -73,6 +173,14 @@ func (m *model) sorted() []api.Mac {
 	return l
 }
 
+// modelFrame is a frame as the model carries it: what stands behind its tag is its rest, the type too.
+type modelFrame struct {
+	to, from   string
+	vlan, mark int
+	rest       string
+	routed     bool
+}
+
 func (m *model) frame(port int, data string) ([]api.Out, int) {
 	if port < 0 || port >= len(m.native) {
 		return nil, api.Unknown
@@ -87,24 +195,79 @@ func (m *model) frame(port int, data string) ([]api.Out, int) {
 	if data[6]%2 == 1 {
 		return nil, api.Source
 	}
-	vlan, mark, rest := m.native[port], 0, data[12:]
+	f := modelFrame{to: data[:6], from: data[6:12], vlan: m.native[port], rest: data[12:]}
 	if hasTag {
-		vlan, mark, rest = int(data[14])%16*256+int(data[15]), int(data[14])/16, data[16:]
+		f.vlan, f.mark, f.rest = int(data[14])%16*256+int(data[15]), int(data[14])/16, data[16:]
 	}
-	if !hasTag && vlan == 0 || hasTag && !slices.Contains(m.tagged[port], vlan) {
+	if !hasTag && f.vlan == 0 || hasTag && !slices.Contains(m.tagged[port], f.vlan) {
 		return nil, api.Barred
 	}
-	m.learn(vlan, data[6:12], port)
-	known := m.at(vlan, data[:6])
-	var outs []api.Out
-	for i := range m.native {
-		if i == port || data[0]%2 == 0 && known >= 0 && m.macs[known].Port != i {
+	m.learn(f.vlan, f.from, port)
+	isIP := f.rest[:2] == "\x08\x00"
+	if isIP && isRight(f.rest[2:]) {
+		switch r := m.first(keyOf(f.rest[2:])); r.Action {
+		case api.Deny:
+			return nil, api.Denied
+		case api.Send:
+			return m.out(f, []int{r.Port})
+		}
+	}
+	if isIP && m.faces[f.vlan] == f.to {
+		var fate int
+		if f, fate = m.routedFrame(f); fate != api.Sent {
+			return nil, fate
+		}
+	}
+	return m.forward(port, f)
+}
+
+func (m *model) routedFrame(f modelFrame) (modelFrame, int) {
+	packet := f.rest[2:]
+	if !isRight(packet) {
+		return f, api.BadIP
+	}
+	if packet[8] < 2 {
+		return f, api.Expired
+	}
+	for length := 32; length >= 0; length-- {
+		way, there := m.routes[[2]int{keyOf(packet)[1] >> (32 - length) << (32 - length), length}]
+		if !there {
 			continue
 		}
-		if m.native[i] == vlan {
-			outs = append(outs, out(i, data[:12]+rest))
-		} else if slices.Contains(m.tagged[i], vlan) {
-			outs = append(outs, out(i, data[:12]+tag(vlan, mark)+rest))
+		face, there := m.faces[way.vlan]
+		if !there {
+			return f, api.NoRoute
+		}
+		hopped := packet[:8] + number(int(packet[8])-1, 1) + packet[9:10] + number(sum(packet[10:12]+"\x01\x00"), 2) + packet[12:]
+		return modelFrame{to: way.mac, from: face, vlan: way.vlan, rest: f.rest[:2] + hopped, routed: true}, api.Sent
+	}
+	return f, api.NoRoute
+}
+
+func (m *model) forward(port int, f modelFrame) ([]api.Out, int) {
+	if known := m.at(f.vlan, f.to); f.to[0]%2 == 0 && known >= 0 {
+		if at := m.macs[known].Port; at != port || f.routed {
+			return m.out(f, []int{at})
+		}
+		return nil, api.Nowhere
+	}
+	var ports []int
+	for i := range m.native {
+		if i != port || f.routed {
+			ports = append(ports, i)
+		}
+	}
+	return m.out(f, ports)
+}
+
+// out tells what goes out at those of some ports that are ones of the VLAN.
+func (m *model) out(f modelFrame, ports []int) ([]api.Out, int) {
+	var outs []api.Out
+	for _, i := range ports {
+		if m.native[i] == f.vlan {
+			outs = append(outs, out(i, f.to+f.from+f.rest))
+		} else if slices.Contains(m.tagged[i], f.vlan) {
+			outs = append(outs, out(i, f.to+f.from+tag(f.vlan, f.mark)+f.rest))
 		}
 	}
 	if len(outs) == 0 {
@@ -113,99 +276,28 @@ func (m *model) frame(port int, data string) ([]api.Out, int) {
 	return outs, api.Sent
 }
 
-// pair is a switch and its model, and how many frames had each fate.
-type pair struct {
-	s     *portico.Switch
-	m     *model
-	r     *rand.Rand
-	fates [11]int
+// numberAt tells the number of so many bytes.
+func numberAt(s string, at, size int) int {
+	n := 0
+	for i := range size {
+		n = n*256 + int(s[at+i])
+	}
+	return n
 }
 
-// vlan picks a number that is mostly one of few VLANs.
-func (p *pair) vlan() int {
-	if p.r.Intn(40) == 0 {
-		return []int{-1, 0, 4094, 4095}[p.r.Intn(4)]
+func isRight(packet string) bool {
+	if len(packet) < 20 || packet[0]/16 != 4 {
+		return false
 	}
-	return 1 + p.r.Intn(6)
+	head, total := int(packet[0]%16)*4, numberAt(packet, 2, 2)
+	return head >= 20 && total >= head && total <= len(packet) && sum(packet[:head]) == 65535
 }
 
-// mac picks one of so many, now and then a group's.
-func (p *pair) mac(many, groups int) string {
-	if p.r.Intn(groups) == 0 {
-		return []string{every, group}[p.r.Intn(2)]
+func keyOf(packet string) api.Key {
+	k := api.Key{numberAt(packet, 12, 4), numberAt(packet, 16, 4), int(packet[9])}
+	head := int(packet[0]%16) * 4
+	if (k[2] == 6 || k[2] == 17) && numberAt(packet, 6, 2)%8192 == 0 && numberAt(packet, 2, 2) >= head+4 {
+		k[3], k[4] = numberAt(packet, head, 2), numberAt(packet, head+2, 2)
 	}
-	return name(p.r.Intn(many))
-}
-
-func (p *pair) data() string {
-	data := p.mac(40, 6) + p.mac(40, 40)
-	if p.r.Intn(2) == 0 {
-		data += tag(max(p.vlan(), 0), p.r.Intn(16))
-	}
-	data += []string{"\x12\x34", "\x08\x00", "\x81\x00"}[p.r.Intn(3)]
-	bytes := make([]byte, p.r.Intn(20))
-	p.r.Read(bytes)
-	data += string(bytes)
-	switch p.r.Intn(60) {
-	case 0:
-		return data[:p.r.Intn(len(data))]
-	case 1:
-		return data + string(make([]byte, 560+p.r.Intn(60)))
-	}
-	return data
-}
-
-func (p *pair) frame(t *testing.T) {
-	port, data := p.r.Intn(len(p.m.native)+1)-p.r.Intn(20)/19, p.data()
-	got, fate := p.s.Frame(port, data)
-	want, wantFate := p.m.frame(port, data)
-	if fate != wantFate || !slices.Equal(got, want) {
-		t.Fatalf("Frame(%d, %q) = %+v, %d, want %+v, %d", port, data, got, fate, want, wantFate)
-	}
-	p.fates[fate]++
-}
-
-func (p *pair) port(t *testing.T) {
-	port, native := p.r.Intn(len(p.m.native)+2)-1, p.vlan()*p.r.Intn(2)
-	var tagged []int
-	for range p.r.Intn(4) {
-		tagged = append(tagged, p.vlan())
-	}
-	want := p.m.port(port, native, tagged)
-	wantPort(t, p.s, port, native, tagged, want)
-}
-
-func (p *pair) tick(t *testing.T) {
-	n := []int{-1, 0, 1, 10, 30, 100, 150, 300, 1000000, 1000001}[p.r.Intn(10)]
-	want := p.m.tick(n)
-	wantTick(t, p.s, n, want)
-}
-
-// Whatever was called ahead, a switch answers what its model does.
-func TestAgainstTheModel(t *testing.T) {
-	var all [11]int
-	for seed := range int64(60) {
-		r := rand.New(rand.NewSource(seed))
-		ports := 1 + r.Intn(8)
-		p := &pair{s: fresh(t, ports), m: modelOf(ports), r: r}
-		for range 1000 {
-			switch r.Intn(30) {
-			case 0:
-				p.port(t)
-			case 1:
-				p.tick(t)
-			default:
-				p.frame(t)
-			}
-			wantMacs(t, p.s, p.m.sorted()...)
-		}
-		for fate, n := range p.fates {
-			all[fate] += n
-		}
-	}
-	for _, fate := range []int{api.Sent, api.Short, api.Source, api.Barred, api.Nowhere, api.Unknown, api.Long} {
-		if all[fate] < 100 {
-			t.Errorf("only %d frames had the fate %d", all[fate], fate)
-		}
-	}
+	return k
 }
